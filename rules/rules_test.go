@@ -1,0 +1,98 @@
+// Package rules reads the program's source: no package may reach for a printer, a clock, a random source, a file or the network (R5), as none imports what could.
+package rules
+
+import (
+	"go/ast"
+	"go/parser"
+	"go/token"
+	"io/fs"
+	"path/filepath"
+	"strconv"
+	"strings"
+	"testing"
+)
+
+const (
+	root     = ".."
+	maxLines = 60
+	allowed  = " bytes cmp container/heap errors iter maps math math/bits slices sort strconv strings sync sync/atomic unicode unicode/utf8 "
+)
+
+// sources calls each for every file of the program, without its tests and what is laid beside it.
+func sources(t *testing.T, each func(path string, set *token.FileSet, file *ast.File)) {
+	t.Helper()
+	seen := 0
+	err := filepath.WalkDir(root, func(path string, d fs.DirEntry, err error) error {
+		if err != nil {
+			return err
+		}
+		if d.IsDir() && (d.Name() == ".git" || d.Name() == "sharedtests") {
+			return filepath.SkipDir
+		}
+		if d.IsDir() || !strings.HasSuffix(path, ".go") || strings.HasSuffix(path, "_test.go") {
+			return nil
+		}
+		set := token.NewFileSet()
+		file, err := parser.ParseFile(set, path, nil, parser.ParseComments)
+		if err != nil {
+			return err
+		}
+		seen++
+		each(path, set, file)
+		return nil
+	})
+	if err != nil || seen == 0 {
+		t.Fatal("no sources read", err)
+	}
+}
+
+func TestImports(t *testing.T) {
+	sources(t, func(path string, _ *token.FileSet, file *ast.File) {
+		for _, s := range file.Imports {
+			name, err := strconv.Unquote(s.Path.Value)
+			if err != nil {
+				t.Fatal(err)
+			}
+			if !strings.HasPrefix(name, "parquet/") && !strings.Contains(allowed, " "+name+" ") {
+				t.Errorf("%s imports %s", path, name)
+			}
+		}
+	})
+}
+
+func TestNothingIsPrinted(t *testing.T) {
+	sources(t, func(path string, set *token.FileSet, file *ast.File) {
+		ast.Inspect(file, func(n ast.Node) bool {
+			if c, ok := n.(*ast.CallExpr); ok {
+				if f, ok := c.Fun.(*ast.Ident); ok && (f.Name == "print" || f.Name == "println") {
+					t.Errorf("%s prints", set.Position(c.Pos()))
+				}
+			}
+			return true
+		})
+	})
+}
+
+func TestFunctionsAreSmall(t *testing.T) {
+	sources(t, func(path string, set *token.FileSet, file *ast.File) {
+		for _, d := range file.Decls {
+			if f, ok := d.(*ast.FuncDecl); ok {
+				if n := set.Position(f.End()).Line - set.Position(f.Pos()).Line + 1; n > maxLines {
+					t.Errorf("%s: %s has %d lines", path, f.Name.Name, n)
+				}
+			}
+		}
+	})
+}
+
+func TestNoDirectives(t *testing.T) {
+	sources(t, func(path string, set *token.FileSet, file *ast.File) {
+		for _, g := range file.Comments {
+			for _, c := range g.List {
+				if strings.HasPrefix(c.Text, "//go:") || strings.HasPrefix(c.Text, "// +build") {
+					t.Errorf("%s: %s", set.Position(c.Pos()), c.Text)
+				}
+			}
+		}
+	})
+}
