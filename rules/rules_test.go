@@ -7,6 +7,7 @@ import (
 	"go/token"
 	"io/fs"
 	"path/filepath"
+	"slices"
 	"strconv"
 	"strings"
 	"testing"
@@ -55,6 +56,32 @@ func TestImports(t *testing.T) {
 			}
 			if !strings.HasPrefix(name, "parquet/") && !strings.Contains(allowed, " "+name+" ") {
 				t.Errorf("%s imports %s", path, name)
+			}
+		}
+	})
+}
+
+// calls tells for each layer which others it may call, by the document's map; any may call api.
+func calls() map[string]string {
+	return map[string]string{
+		"api": "", "wide": "", "token": "", "pred": "wide", "meet": "pred", "input": "token", "options": "token", "sorts": "",
+		"rings": "wide pred", "within": "pred meet", "valid": "input meet sorts rings within", "faces": "",
+		"fill": "pred meet within valid", "flips": "pred fill", "insert": "pred meet fill", "defects": "pred fill",
+		"refine": "pred fill flips insert defects", "dual": "pred fill", "match": "", "quads": "pred dual match",
+		"halve": "pred faces", "object": "pred token sorts faces",
+		"mesher": "input options valid fill flips insert refine quads halve object",
+	}
+}
+
+func TestLayersCallThoseOfTheMap(t *testing.T) {
+	layers := calls()
+	sources(t, func(path string, _ *token.FileSet, file *ast.File) {
+		may, layer := layers[filepath.Base(filepath.Dir(path))]
+		for _, s := range file.Imports {
+			name, own := strings.CutPrefix(strings.Trim(s.Path.Value, `"`), "parquet/")
+			_, other := layers[name]
+			if layer && own && other && name != "api" && !slices.Contains(strings.Fields(may), name) {
+				t.Errorf("%s calls %s", path, name)
 			}
 		}
 	})
