@@ -87,6 +87,29 @@ func TestLayersCallThoseOfTheMap(t *testing.T) {
 	})
 }
 
+// The ways that the chapter of pred asks for, beside variadic functions, whose signatures its own tests hold.
+func TestWaysOfPred(t *testing.T) {
+	bits, bare := false, false
+	sources(t, func(path string, _ *token.FileSet, file *ast.File) {
+		if filepath.Base(filepath.Dir(path)) != "pred" {
+			return
+		}
+		ast.Inspect(file, func(n ast.Node) bool {
+			switch x := n.(type) {
+			case *ast.SelectorExpr:
+				name, ok := x.X.(*ast.Ident)
+				bits = bits || ok && name.Name == "bits" && x.Sel.Name == "Mul64"
+			case *ast.SwitchStmt:
+				bare = bare || x.Tag == nil
+			}
+			return true
+		})
+	})
+	if !bits || !bare {
+		t.Errorf("pred computes products with math/bits: %v, and has a switch without a condition: %v", bits, bare)
+	}
+}
+
 func TestNothingIsPrinted(t *testing.T) {
 	sources(t, func(path string, set *token.FileSet, file *ast.File) {
 		ast.Inspect(file, func(n ast.Node) bool {
