@@ -87,26 +87,56 @@ func TestLayersCallThoseOfTheMap(t *testing.T) {
 	})
 }
 
+// inside calls each for every node of a layer's source.
+func inside(t *testing.T, layer string, each func(n ast.Node)) {
+	t.Helper()
+	sources(t, func(path string, _ *token.FileSet, file *ast.File) {
+		if filepath.Base(filepath.Dir(path)) == layer {
+			ast.Inspect(file, func(n ast.Node) bool {
+				each(n)
+				return true
+			})
+		}
+	})
+}
+
+// isBareSwitch tells whether n is a switch without a condition.
+func isBareSwitch(n ast.Node) bool {
+	s, ok := n.(*ast.SwitchStmt)
+	return ok && s.Tag == nil
+}
+
 // The ways that the chapter of pred asks for, beside variadic functions, whose signatures its own tests hold.
 func TestWaysOfPred(t *testing.T) {
 	bits, bare := false, false
-	sources(t, func(path string, _ *token.FileSet, file *ast.File) {
-		if filepath.Base(filepath.Dir(path)) != "pred" {
-			return
+	inside(t, "pred", func(n ast.Node) {
+		bare = bare || isBareSwitch(n)
+		if x, ok := n.(*ast.SelectorExpr); ok {
+			name, ok := x.X.(*ast.Ident)
+			bits = bits || ok && name.Name == "bits" && x.Sel.Name == "Mul64"
 		}
-		ast.Inspect(file, func(n ast.Node) bool {
-			switch x := n.(type) {
-			case *ast.SelectorExpr:
-				name, ok := x.X.(*ast.Ident)
-				bits = bits || ok && name.Name == "bits" && x.Sel.Name == "Mul64"
-			case *ast.SwitchStmt:
-				bare = bare || x.Tag == nil
-			}
-			return true
-		})
 	})
 	if !bits || !bare {
 		t.Errorf("pred computes products with math/bits: %v, and has a switch without a condition: %v", bits, bare)
+	}
+}
+
+// The ways that the chapter of meet asks for, beside First's signature.
+func TestWaysOfMeet(t *testing.T) {
+	pairs, bare := false, false
+	inside(t, "meet", func(n ast.Node) {
+		bare = bare || isBareSwitch(n)
+		if x, ok := n.(*ast.BinaryExpr); ok && x.Op == token.EQL {
+			// A literal of an array, held as a whole against another one.
+			pair, ok := x.Y.(*ast.CompositeLit)
+			if ok {
+				array, ok := pair.Type.(*ast.ArrayType)
+				pairs = pairs || ok && array.Len != nil
+			}
+		}
+	})
+	if !pairs || !bare {
+		t.Errorf("meet compares arrays: %v, and has a switch without a condition: %v", pairs, bare)
 	}
 }
 
