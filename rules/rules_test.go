@@ -140,6 +140,79 @@ func TestWaysOfMeet(t *testing.T) {
 	}
 }
 
+// embedded returns the names of the types of this layer that others embed, behind those that embed them.
+func embedded(t *testing.T, layer string) map[string]string {
+	t.Helper()
+	parts := map[string]string{}
+	inside(t, layer, func(n ast.Node) {
+		if x, ok := n.(*ast.TypeSpec); ok {
+			if s, ok := x.Type.(*ast.StructType); ok {
+				for _, f := range s.Fields.List {
+					if name, ok := f.Type.(*ast.Ident); ok && len(f.Names) == 0 {
+						parts[x.Name.Name] = name.Name
+					}
+				}
+			}
+		}
+	})
+	return parts
+}
+
+// receiver returns the name of the receiver of f, and that of its type; none if f is no method.
+func receiver(f *ast.FuncDecl) (string, string) {
+	if f.Recv == nil || len(f.Recv.List[0].Names) == 0 {
+		return "", ""
+	}
+	kind := f.Recv.List[0].Type
+	if pointer, ok := kind.(*ast.StarExpr); ok {
+		kind = pointer.X
+	}
+	name, ok := kind.(*ast.Ident)
+	if !ok {
+		return "", ""
+	}
+	return f.Recv.List[0].Names[0].Name, name.Name
+}
+
+// callsPromoted tells whether the method f calls, by the name of its receiver alone, one of those methods.
+func callsPromoted(f *ast.FuncDecl, self string, methods []string) bool {
+	found := false
+	ast.Inspect(f.Body, func(n ast.Node) bool {
+		if x, ok := n.(*ast.SelectorExpr); ok {
+			name, ok := x.X.(*ast.Ident)
+			found = found || ok && name.Name == self && slices.Contains(methods, x.Sel.Name)
+		}
+		return true
+	})
+	return found
+}
+
+// The ways that the chapter of input asks for: a struct with an embedded one, whose methods it calls as its own; a variadic function that reads numbers.
+func TestWaysOfInput(t *testing.T) {
+	parts := embedded(t, "input")
+	methods := map[string][]string{}
+	variadic, promoted := false, false
+	inside(t, "input", func(n ast.Node) {
+		if f, ok := n.(*ast.FuncDecl); ok {
+			_, kind := receiver(f)
+			methods[kind] = append(methods[kind], f.Name.Name)
+			if l := f.Type.Params.List; parts[kind] != "" && len(l) > 0 {
+				_, ok := l[len(l)-1].Type.(*ast.Ellipsis)
+				variadic = variadic || ok
+			}
+		}
+	})
+	inside(t, "input", func(n ast.Node) {
+		if f, ok := n.(*ast.FuncDecl); ok {
+			self, kind := receiver(f)
+			promoted = promoted || parts[kind] != "" && callsPromoted(f, self, methods[parts[kind]])
+		}
+	})
+	if !promoted || !variadic {
+		t.Errorf("input has a reader that calls methods of an embedded struct: %v, and is asked for numbers by a variadic function: %v", promoted, variadic)
+	}
+}
+
 func TestNothingIsPrinted(t *testing.T) {
 	sources(t, func(path string, set *token.FileSet, file *ast.File) {
 		ast.Inspect(file, func(n ast.Node) bool {
