@@ -213,6 +213,56 @@ func TestWaysOfInput(t *testing.T) {
 	}
 }
 
+// labelled tells whether the loop with that label has a switch, in which something breaks or goes on with the loop by it.
+func labelled(l *ast.LabeledStmt) bool {
+	loop, ok := l.Stmt.(*ast.ForStmt)
+	if !ok {
+		return false
+	}
+	found := false
+	for _, s := range loop.Body.List {
+		if s, ok := s.(*ast.SwitchStmt); ok {
+			ast.Inspect(s, func(n ast.Node) bool {
+				b, ok := n.(*ast.BranchStmt)
+				found = found || ok && b.Label != nil && b.Label.Name == l.Label.Name
+				return true
+			})
+		}
+	}
+	return found
+}
+
+// returnsClosure tells whether n returns a function that is written out there.
+func returnsClosure(n ast.Node) bool {
+	r, ok := n.(*ast.ReturnStmt)
+	if !ok || len(r.Results) != 1 {
+		return false
+	}
+	_, ok = r.Results[0].(*ast.FuncLit)
+	return ok
+}
+
+// The ways that the chapter of options asks for, beside Make's signature: closures, a switch in a loop with a label, a map, an array, and digits as runes.
+func TestWaysOfOptions(t *testing.T) {
+	closure, label, table, array, digits := false, false, false, false, false
+	inside(t, "options", func(n ast.Node) {
+		closure = closure || returnsClosure(n)
+		switch x := n.(type) {
+		case *ast.LabeledStmt:
+			label = label || labelled(x)
+		case *ast.MapType:
+			table = true
+		case *ast.ArrayType:
+			array = array || x.Len != nil
+		case *ast.Ident:
+			digits = digits || x.Name == "rune"
+		}
+	})
+	if !closure || !label || !table || !array || !digits {
+		t.Errorf("options has closures: %v, a switch in a loop with a label: %v, a map: %v, an array: %v, digits as runes: %v", closure, label, table, array, digits)
+	}
+}
+
 func TestNothingIsPrinted(t *testing.T) {
 	sources(t, func(path string, set *token.FileSet, file *ast.File) {
 		ast.Inspect(file, func(n ast.Node) bool {
