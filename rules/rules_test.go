@@ -263,6 +263,43 @@ func TestWaysOfOptions(t *testing.T) {
 	}
 }
 
+// generic tells whether f has a type parameter, and takes a function of two values of that type.
+func generic(f *ast.FuncDecl) bool {
+	if f.Type.TypeParams == nil {
+		return false
+	}
+	kind := f.Type.TypeParams.List[0].Names[0].Name
+	for _, p := range f.Type.Params.List {
+		if order, ok := p.Type.(*ast.FuncType); ok && len(order.Params.List) == 2 {
+			name, ok := order.Params.List[0].Type.(*ast.Ident)
+			return ok && name.Name == kind
+		}
+	}
+	return false
+}
+
+// The ways that the chapter of sorts asks for: generic functions that are passed the order, and a closure over points as the order of indexes.
+func TestWaysOfSorts(t *testing.T) {
+	var functions []string
+	closure := false
+	inside(t, "sorts", func(n ast.Node) {
+		switch x := n.(type) {
+		case *ast.FuncDecl:
+			if generic(x) {
+				functions = append(functions, x.Name.Name)
+			}
+		case *ast.CallExpr:
+			if name, ok := x.Fun.(*ast.Ident); ok && (name.Name == "Sort" || name.Name == "Merge") {
+				_, ok := x.Args[len(x.Args)-1].(*ast.FuncLit)
+				closure = closure || ok
+			}
+		}
+	})
+	if !closure || !slices.Contains(functions, "Merge") || !slices.Contains(functions, "Sort") {
+		t.Errorf("sorts sorts by a closure: %v, and has as generic functions that take an order: %v", closure, functions)
+	}
+}
+
 func TestNothingIsPrinted(t *testing.T) {
 	sources(t, func(path string, set *token.FileSet, file *ast.File) {
 		ast.Inspect(file, func(n ast.Node) bool {
