@@ -300,6 +300,35 @@ func TestWaysOfSorts(t *testing.T) {
 	}
 }
 
+// isPair tells whether n is the type of an array of two.
+func isPair(n ast.Node) bool {
+	x, ok := n.(*ast.ArrayType)
+	if !ok {
+		return false
+	}
+	length, ok := x.Len.(*ast.BasicLit)
+	return ok && length.Value == "2"
+}
+
+// The ways that the chapter of rings asks for, beside Segs's signature: an array of two for each point, and a map whose keys are segments; and a closure that asks the map.
+func TestWaysOfRings(t *testing.T) {
+	pairs, ends, closure := false, false, false
+	inside(t, "rings", func(n ast.Node) {
+		switch x := n.(type) {
+		case *ast.ArrayType:
+			pairs = pairs || x.Len == nil && isPair(x.Elt)
+		case *ast.MapType:
+			key, ok := x.Key.(*ast.SelectorExpr)
+			ends = ends || ok && key.Sel.Name == "Seg"
+		case *ast.FuncLit:
+			closure = true
+		}
+	})
+	if !pairs || !ends || !closure {
+		t.Errorf("rings has an array of two for each point: %v, a map whose keys are segments: %v, a closure: %v", pairs, ends, closure)
+	}
+}
+
 func TestNothingIsPrinted(t *testing.T) {
 	sources(t, func(path string, set *token.FileSet, file *ast.File) {
 		ast.Inspect(file, func(n ast.Node) bool {
