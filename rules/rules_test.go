@@ -329,6 +329,41 @@ func TestWaysOfRings(t *testing.T) {
 	}
 }
 
+// passed calls each for the names of methods that n passes to some function as values, or keeps as such.
+func passed(n ast.Node, each func(name string)) {
+	var values []ast.Expr
+	switch x := n.(type) {
+	case *ast.CallExpr:
+		values = x.Args
+	case *ast.AssignStmt:
+		values = x.Rhs
+	}
+	for _, v := range values {
+		if s, ok := v.(*ast.SelectorExpr); ok {
+			each(s.Sel.Name)
+		}
+	}
+}
+
+// The ways that the chapter of within asks for: a method that gives points of finer grids, as a value; a switch that tells sides apart; a variadic function.
+func TestWaysOfWithin(t *testing.T) {
+	var methods []string
+	value, bare, variadic := false, false, false
+	inside(t, "within", func(n ast.Node) {
+		if f, ok := n.(*ast.FuncDecl); ok && f.Recv != nil {
+			methods = append(methods, f.Name.Name)
+		}
+		_, dots := n.(*ast.Ellipsis)
+		bare, variadic = bare || isBareSwitch(n), variadic || dots
+	})
+	inside(t, "within", func(n ast.Node) {
+		passed(n, func(name string) { value = value || slices.Contains(methods, name) })
+	})
+	if !value || !bare || !variadic {
+		t.Errorf("within passes a method as a value: %v, has a switch without a condition: %v, a variadic function: %v", value, bare, variadic)
+	}
+}
+
 func TestNothingIsPrinted(t *testing.T) {
 	sources(t, func(path string, set *token.FileSet, file *ast.File) {
 		ast.Inspect(file, func(n ast.Node) bool {
