@@ -364,6 +364,42 @@ func TestWaysOfWithin(t *testing.T) {
 	}
 }
 
+// asks tells whether the loop calls each function that it goes through, and may end the whole after one.
+func asks(loop *ast.RangeStmt) bool {
+	value, ok := loop.Value.(*ast.Ident)
+	if !ok {
+		return false
+	}
+	called, ended := false, false
+	ast.Inspect(loop.Body, func(n ast.Node) bool {
+		if x, ok := n.(*ast.CallExpr); ok {
+			name, ok := x.Fun.(*ast.Ident)
+			called = called || ok && name.Name == value.Name
+		}
+		_, out := n.(*ast.ReturnStmt)
+		ended = ended || out
+		return true
+	})
+	return called && ended
+}
+
+// The ways that the chapter of valid asks for: functions in an array, called one after the other until one ends this.
+func TestWaysOfValid(t *testing.T) {
+	array, asked := false, false
+	inside(t, "valid", func(n ast.Node) {
+		switch x := n.(type) {
+		case *ast.ArrayType:
+			_, function := x.Elt.(*ast.FuncType)
+			array = array || x.Len != nil && function
+		case *ast.RangeStmt:
+			asked = asked || asks(x)
+		}
+	})
+	if !array || !asked {
+		t.Errorf("valid has an array of functions: %v, and calls one after the other: %v", array, asked)
+	}
+}
+
 func TestNothingIsPrinted(t *testing.T) {
 	sources(t, func(path string, set *token.FileSet, file *ast.File) {
 		ast.Inspect(file, func(n ast.Node) bool {
