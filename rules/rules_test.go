@@ -400,6 +400,38 @@ func TestWaysOfValid(t *testing.T) {
 	}
 }
 
+// The ways that the chapter of faces asks for: a table that embeds a map, whose keys are structs; a mesh that embeds the table, and calls its methods as its own; edges sorted with package slices; entries that are deleted, and a map that is gone through.
+func TestWaysOfFaces(t *testing.T) {
+	parts, methods, maps := embedded(t, "faces"), map[string][]string{}, map[string]bool{}
+	sorted, deleted, promoted := false, false, false
+	inside(t, "faces", func(n ast.Node) {
+		switch x := n.(type) {
+		case *ast.TypeSpec:
+			if m, ok := x.Type.(*ast.MapType); ok {
+				key, ok := m.Key.(*ast.SelectorExpr)
+				maps[x.Name.Name] = ok && key.Sel.Name == "Seg"
+			}
+		case *ast.FuncDecl:
+			_, kind := receiver(x)
+			methods[kind] = append(methods[kind], x.Name.Name)
+		case *ast.CallExpr:
+			name, ok := x.Fun.(*ast.Ident)
+			deleted = deleted || ok && name.Name == "delete"
+			way, ok := x.Fun.(*ast.SelectorExpr)
+			sorted = sorted || ok && way.Sel.Name == "SortFunc"
+		}
+	})
+	inside(t, "faces", func(n ast.Node) {
+		if f, ok := n.(*ast.FuncDecl); ok {
+			self, kind := receiver(f)
+			promoted = promoted || maps[parts[parts[kind]]] && callsPromoted(f, self, methods[parts[kind]])
+		}
+	})
+	if !promoted || !sorted || !deleted {
+		t.Errorf("faces has a mesh that calls methods of an embedded table, which embeds a map of edges: %v, sorts edges: %v, deletes: %v", promoted, sorted, deleted)
+	}
+}
+
 func TestNothingIsPrinted(t *testing.T) {
 	sources(t, func(path string, set *token.FileSet, file *ast.File) {
 		ast.Inspect(file, func(n ast.Node) bool {
