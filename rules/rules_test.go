@@ -432,6 +432,57 @@ func TestWaysOfFaces(t *testing.T) {
 	}
 }
 
+// comparesTriangle tells whether n compares the triangle that a call of Tri returns with another one, as a whole.
+func comparesTriangle(n ast.Node) bool {
+	s, ok := n.(*ast.IfStmt)
+	if !ok {
+		return false
+	}
+	got, ok := s.Init.(*ast.AssignStmt)
+	if !ok {
+		return false
+	}
+	call, ok := got.Rhs[0].(*ast.CallExpr)
+	if !ok {
+		return false
+	}
+	made, isName := call.Fun.(*ast.Ident)
+	value, isValue := got.Lhs[0].(*ast.Ident)
+	found := false
+	ast.Inspect(s.Cond, func(n ast.Node) bool {
+		if x, ok := n.(*ast.BinaryExpr); ok && (x.Op == token.EQL || x.Op == token.NEQ) {
+			one, ok := x.X.(*ast.Ident)
+			found = found || ok && isValue && one.Name == value.Name
+		}
+		return true
+	})
+	return found && isName && made.Name == "Tri"
+}
+
+// The ways that the chapter of fill asks for: a map whose keys are edges; triangles that are sorted, and compared as structs; a list that is copied as a whole; and an array of a triangle's edges.
+func TestWaysOfFill(t *testing.T) {
+	edges, sorted, compared, copied, array := false, false, false, false, false
+	isSeg := func(n ast.Node) bool {
+		x, ok := n.(*ast.SelectorExpr)
+		return ok && x.Sel.Name == "Seg"
+	}
+	inside(t, "fill", func(n ast.Node) {
+		compared = compared || comparesTriangle(n)
+		switch x := n.(type) {
+		case *ast.MapType:
+			edges = edges || isSeg(x.Key)
+		case *ast.ArrayType:
+			array = array || x.Len != nil && isSeg(x.Elt)
+		case *ast.SelectorExpr:
+			sorted = sorted || x.Sel.Name == "SortFunc"
+			copied = copied || x.Sel.Name == "Clone"
+		}
+	})
+	if !edges || !sorted || !compared || !copied || !array {
+		t.Errorf("fill has a map of edges: %v, sorts: %v, compares triangles: %v, copies a list: %v, has an array of edges: %v", edges, sorted, compared, copied, array)
+	}
+}
+
 func TestNothingIsPrinted(t *testing.T) {
 	sources(t, func(path string, set *token.FileSet, file *ast.File) {
 		ast.Inspect(file, func(n ast.Node) bool {
