@@ -483,6 +483,66 @@ func TestWaysOfFill(t *testing.T) {
 	}
 }
 
+// filtersByClosure tells whether n removes elements of a list by a function that is written out there.
+func filtersByClosure(n ast.Node) bool {
+	x, ok := n.(*ast.CallExpr)
+	if !ok {
+		return false
+	}
+	name, ok := x.Fun.(*ast.SelectorExpr)
+	if !ok || name.Sel.Name != "DeleteFunc" {
+		return false
+	}
+	_, ok = x.Args[len(x.Args)-1].(*ast.FuncLit)
+	return ok
+}
+
+// mapFields returns the names of the fields of this layer's structs that are maps whose keys are segments.
+func mapFields(t *testing.T, layer string) []string {
+	t.Helper()
+	var names []string
+	inside(t, layer, func(n ast.Node) {
+		f, ok := n.(*ast.Field)
+		if !ok {
+			return
+		}
+		if m, ok := f.Type.(*ast.MapType); ok {
+			if key, ok := m.Key.(*ast.SelectorExpr); ok && key.Sel.Name == "Seg" {
+				for _, name := range f.Names {
+					names = append(names, name.Name)
+				}
+			}
+		}
+	})
+	return names
+}
+
+// The ways that the chapter of flips asks for: a map whose keys are edges, in which triangles are looked up, and which is gone through; triangles removed by a closure; lists that are returned as copies; and an array of four points.
+func TestWaysOfFlips(t *testing.T) {
+	edges := mapFields(t, "flips")
+	isEdges := func(n ast.Node) bool {
+		x, ok := n.(*ast.SelectorExpr)
+		return ok && slices.Contains(edges, x.Sel.Name)
+	}
+	asked, ranged, filtered, copied, array := false, false, false, false, false
+	inside(t, "flips", func(n ast.Node) {
+		filtered = filtered || filtersByClosure(n)
+		switch x := n.(type) {
+		case *ast.IndexExpr:
+			asked = asked || isEdges(x.X)
+		case *ast.RangeStmt:
+			ranged = ranged || isEdges(x.X)
+		case *ast.ArrayType:
+			array = array || x.Len != nil
+		case *ast.SelectorExpr:
+			copied = copied || x.Sel.Name == "Clone"
+		}
+	})
+	if !asked || !ranged || !filtered || !copied || !array {
+		t.Errorf("flips asks a map of edges: %v, goes through it: %v, filters by a closure: %v, copies lists: %v, has an array: %v", asked, ranged, filtered, copied, array)
+	}
+}
+
 func TestNothingIsPrinted(t *testing.T) {
 	sources(t, func(path string, set *token.FileSet, file *ast.File) {
 		ast.Inspect(file, func(n ast.Node) bool {
