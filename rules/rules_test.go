@@ -543,6 +543,57 @@ func TestWaysOfFlips(t *testing.T) {
 	}
 }
 
+// tellsSpots tells whether n is a switch over a field Kind, with cases for all spots but the one of what is left.
+func tellsSpots(n ast.Node) bool {
+	s, ok := n.(*ast.SwitchStmt)
+	if !ok {
+		return false
+	}
+	tag, ok := s.Tag.(*ast.SelectorExpr)
+	if !ok || tag.Sel.Name != "Kind" {
+		return false
+	}
+	cases := 0
+	for _, c := range s.Body.List {
+		for _, kind := range c.(*ast.CaseClause).List {
+			if x, ok := kind.(*ast.SelectorExpr); ok && strings.HasPrefix(x.Sel.Name, "Spot") {
+				cases++
+			}
+		}
+	}
+	return cases >= 3
+}
+
+// extendsClone tells whether n inserts into a list that it clones for that.
+func extendsClone(n ast.Node) bool {
+	x, ok := n.(*ast.CallExpr)
+	if !ok || len(x.Args) == 0 {
+		return false
+	}
+	name, ok := x.Fun.(*ast.SelectorExpr)
+	if !ok || name.Sel.Name != "Insert" {
+		return false
+	}
+	list, ok := x.Args[0].(*ast.CallExpr)
+	if !ok {
+		return false
+	}
+	of, ok := list.Fun.(*ast.SelectorExpr)
+	return ok && of.Sel.Name == "Clone"
+}
+
+// The ways that the chapter of insert asks for: spots told apart by a switch over their kinds; lists that are cloned and extended; and closures.
+func TestWaysOfInsert(t *testing.T) {
+	spots, extended, closure := false, false, false
+	inside(t, "insert", func(n ast.Node) {
+		_, function := n.(*ast.FuncLit)
+		spots, extended, closure = spots || tellsSpots(n), extended || extendsClone(n), closure || function
+	})
+	if !spots || !extended || !closure {
+		t.Errorf("insert tells spots apart by a switch: %v, extends clones: %v, has a closure: %v", spots, extended, closure)
+	}
+}
+
 func TestNothingIsPrinted(t *testing.T) {
 	sources(t, func(path string, set *token.FileSet, file *ast.File) {
 		ast.Inspect(file, func(n ast.Node) bool {
